@@ -7,55 +7,14 @@ import (
 	"testing"
 
 	"abutment/api"
-	"abutment/arena"
-	"abutment/device"
 	"abutment/file"
-	"abutment/space"
+	"abutment/trial"
 )
-
-// first is where the space of each work begins: the blocks ahead of it are another one's.
-const first = 3
-
-// made answers a work of blocks of size words, so many of which are the space's, whose arena
-// has so much room.
-func made(t *testing.T, size, blocks, room int) *file.Work {
-	t.Helper()
-	d, e := device.New(size, first+blocks)
-	w := file.New(d, arena.New(room), space.New(first, blocks))
-	if e != api.OK || w == nil {
-		t.Fatalf("a work of %d blocks of %d words: %v, error %d", blocks, size, w, e)
-	}
-	return w
-}
-
-// laid answers the file of those tuples.
-func laid(t *testing.T, w *file.Work, width int, l []api.Tuple) file.File {
-	t.Helper()
-	f, e := w.Lay(width, l)
-	if e != api.OK {
-		t.Fatalf("Lay(%d, %d tuples): error %d", width, len(l), e)
-	}
-	return f
-}
-
-// lists wants that f has just these tuples.
-func lists(t *testing.T, w *file.Work, f file.File, l []api.Tuple) {
-	t.Helper()
-	if got, e := w.List(f); e != api.OK || !slices.Equal(got, l) {
-		t.Fatalf("List(%v): %v, error %d, not %v", f, got, e, l)
-	}
-}
-
-// blocksOf is how many blocks n tuples need.
-func blocksOf(size, width, n int) int {
-	holds := (size - 2) / width
-	return (n + holds - 1) / holds
-}
 
 // plenty answers a work with more blocks than Ranks of n tuples needs, and the least room.
 func plenty(t *testing.T, size, n int) *file.Work {
 	t.Helper()
-	return made(t, size, 10*blocksOf(size, 3, n)+20, 8*size)
+	return trial.Made(t, size, 10*trial.BlocksOf(size, width, n)+20, 8*size)
 }
 
 // isLists tells whether tuples are lists, as the chapter has it, but for circles.
@@ -103,41 +62,39 @@ func walked(l []api.Tuple) ([]api.Tuple, bool) {
 	return want, len(want) == len(l) // those on circles are come to from none
 }
 
-// ranked wants that Ranks of the file of those tuples makes the file that it has to, that the
-// other one stays, and that nothing else is taken or granted.
-func ranked(t *testing.T, w *file.Work, l []api.Tuple) {
-	t.Helper()
+// caseOf is the call of Ranks of those tuples.
+func caseOf(l []api.Tuple) trial.Case {
+	c := trial.Case{Given: []trial.Table{{Width: width, List: l}}, Call: func(w *file.Work, l []file.File) ([]file.File, api.Errno) {
+		f, e := Ranks(w, l[0])
+		return []file.File{f}, e
+	}}
 	want, ok := walked(l)
 	if !ok {
-		t.Fatalf("%v aren't lists", l)
+		c.Err = api.ErrFormat
+		return c
 	}
-	f := laid(t, w, 3, l)
-	free, used := w.Space().Free(), w.Arena().Used()
-	g, e := Ranks(w, f)
-	blocks := blocksOf(w.Device().Size(), 2, len(l))
-	if e != api.OK || g.Width != 2 || g.Count != len(l) || g.Blocks != blocks {
-		t.Fatalf("Ranks of %v: %v, error %d", l, g, e)
-	}
-	if n := free - w.Space().Free(); n != blocks || w.Arena().Used() != used || w.Arena().Peak() > w.Arena().Room() {
-		t.Fatalf("%d blocks are taken, not %d, %d words are granted, %d were", n, blocks, w.Arena().Used(), w.Arena().Peak())
-	}
-	lists(t, w, g, want)
-	lists(t, w, f, l)
-	w.Free(f)
-	w.Free(g)
+	c.Want = []trial.Table{{Width: 2, List: want}}
+	return c
 }
 
-// unformed wants that Ranks of the file of those tuples is ErrFormat, that the file stays, and
-// that nothing else is taken or granted.
+// ranked wants that Ranks of those tuples makes the file that it has to.
+func ranked(t *testing.T, w *file.Work, l []api.Tuple) {
+	t.Helper()
+	c := caseOf(l)
+	if c.Err != api.OK {
+		t.Fatalf("%v aren't lists", l)
+	}
+	c.Holds(t, w)
+}
+
+// unformed wants that Ranks of those tuples is ErrFormat.
 func unformed(t *testing.T, w *file.Work, l []api.Tuple) {
 	t.Helper()
-	if _, ok := walked(l); ok {
+	c := caseOf(l)
+	if c.Err != api.ErrFormat {
 		t.Fatalf("%v are lists", l)
 	}
-	f := laid(t, w, 3, l)
-	fails(t, w, f, api.ErrFormat)
-	lists(t, w, f, l)
-	w.Free(f)
+	c.Holds(t, w)
 }
 
 // value is the number i of some that lie all over the int64s.
@@ -192,31 +149,23 @@ func gcd(a, b int) int {
 
 // P14.1: the chapter's example.
 func TestExample(t *testing.T) {
-	w := made(t, 8, 40, 64)
-	f := laid(t, w, 3, []api.Tuple{{5, 7, 2}, {7, -1, 9}, {6, 5, 1}})
-	g, e := Ranks(w, f)
-	if e != api.OK || g.Width != 2 || g.Count != 3 || g.Blocks != 1 {
-		t.Fatalf("Ranks: %v, error %d", g, e)
-	}
-	lists(t, w, g, []api.Tuple{{5, 1}, {6, 0}, {7, 3}})
+	c := caseOf([]api.Tuple{{5, 7, 2}, {7, -1, 9}, {6, 5, 1}})
+	c.Want[0].List = []api.Tuple{{5, 1}, {6, 0}, {7, 3}}
+	c.Holds(t, c.Plenty(t, 8))
 }
 
 // P14.1: two lists, written out, one of which is one element.
 func TestTwo(t *testing.T) {
-	w := made(t, 9, 40, 72)
-	f := laid(t, w, 3, []api.Tuple{{0, 4, -3}, {1, -1, 8}, {2, 0, 7}, {3, -1, 100}, {4, 1, 5}})
-	g, e := Ranks(w, f)
-	if e != api.OK {
-		t.Fatalf("Ranks: %v, error %d", g, e)
-	}
-	lists(t, w, g, []api.Tuple{{0, 7}, {1, 9}, {2, 0}, {3, 0}, {4, 4}})
+	c := caseOf([]api.Tuple{{0, 4, -3}, {1, -1, 8}, {2, 0, 7}, {3, -1, 100}, {4, 1, 5}})
+	c.Want[0].List = []api.Tuple{{0, 7}, {1, 9}, {2, 0}, {3, 0}, {4, 4}}
+	c.Holds(t, c.Plenty(t, 9))
 }
 
 // P14.1: a file without tuples has no lists.
 func TestEmpty(t *testing.T) {
-	w := made(t, 8, 0, 64)
+	w := trial.Made(t, 8, 0, 64)
 	w.Device().SetFuse(0)
-	if g, e := Ranks(w, file.File{Width: 3}); e != api.OK || g != (file.File{Width: 2}) {
+	if g, e := Ranks(w, file.File{Width: width}); e != api.OK || g != (file.File{Width: 2}) {
 		t.Fatalf("Ranks: %v, error %d", g, e)
 	}
 }
@@ -238,11 +187,7 @@ func TestAll(t *testing.T) {
 	w := plenty(t, 8, 3)
 	var try func(l []api.Tuple)
 	try = func(l []api.Tuple) {
-		if _, ok := walked(l); ok {
-			ranked(t, w, l)
-		} else {
-			unformed(t, w, l)
-		}
+		caseOf(l).Holds(t, w)
 		for _, x := range tuplesOf() {
 			if len(l) < 3 {
 				x[2] = int64(10 << (4 * len(l)))
@@ -281,7 +226,7 @@ func TestLengths(t *testing.T) {
 	for _, size := range []int{api.LeastBlock, 11, 12, 40, api.MostBlock} {
 		for _, room := range []int{8 * size, 8*size + 7, 30 * size} {
 			for n := range 70 {
-				w := made(t, size, 10*blocksOf(size, 3, n)+20, room)
+				w := trial.Made(t, size, 10*trial.BlocksOf(size, width, n)+20, room)
 				ranked(t, w, mixed(chain(n, n)))
 			}
 		}
@@ -339,27 +284,7 @@ func TestEdges(t *testing.T) {
 			}
 		}
 	}
-	f := laid(t, w, 3, []api.Tuple{{0, 1, math.MaxInt64}, {1, 2, 1}, {2, -1, 5}})
-	g, e := Ranks(w, f)
-	if e != api.OK {
-		t.Fatalf("Ranks: %v, error %d", g, e)
-	}
-	lists(t, w, g, []api.Tuple{{0, 0}, {1, math.MaxInt64}, {2, math.MinInt64}})
-}
-
-// P14.1: what others were granted and took stays as it is.
-func TestBesideOthers(t *testing.T) {
-	w := made(t, 8, 99, 77+64)
-	grant, _ := w.Arena().Grant(77)
-	for i := range grant.W {
-		grant.W[i] = uint64(i)
-	}
-	other := laid(t, w, 3, chain(50, 9))
-	ranked(t, w, mixed(chain(0, 13)))
-	lists(t, w, other, chain(50, 9))
-	for i, x := range grant.W {
-		if x != uint64(i) {
-			t.Fatalf("the word %d of another grant is %d", i, x)
-		}
-	}
+	c := caseOf([]api.Tuple{{0, 1, math.MaxInt64}, {1, 2, 1}, {2, -1, 5}})
+	c.Want[0].List = []api.Tuple{{0, 0}, {1, math.MaxInt64}, {2, math.MinInt64}}
+	c.Holds(t, w)
 }
